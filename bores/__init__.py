@@ -1,0 +1,1 @@
+"""Bores: rows of layers likened, ordered, and drawn between."""
