@@ -1,4 +1,4 @@
-"""The layers of a bore, how deep they lie, and the bores of a field by place."""
+"""The layers of a bore, their spots, how deep they lie, and the bores of a field by place."""
 
 
 def layers_of(bore):
@@ -6,6 +6,10 @@ def layers_of(bore):
     for block in bore[3]:
         layers.extend(block)
     return layers
+
+
+def spots_of_bore(bore):
+    return [(bore[0], number) for number in range(len(layers_of(bore)))]
 
 
 def block_ends(bore):
