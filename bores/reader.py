@@ -2,7 +2,7 @@
 
 from bores.errors import NoText
 from bores.fields import fitted
-from bores.words import is_name, is_number, rows_of, words_of
+from bores.words import rows_of, values_of, words_of
 
 # For each first word of a row, what the words behind it are.
 FORMS = {
@@ -24,17 +24,9 @@ def read(text):
 
 def thing_of(words):
     first = words[0]
-    if first not in FORMS or len(words) - 1 != len(FORMS[first]):
+    if first not in FORMS:
         raise NoText(f"no row of a field: {words!r}")
-    return (first, tuple([value_of(kind, word) for kind, word in zip(FORMS[first], words[1:])]))
-
-
-def value_of(kind, word):
-    if kind == "name" and is_name(word):
-        return word
-    if kind == "number" and is_number(word):
-        return int(word)
-    raise NoText(f"no {kind}: {word!r}")
+    return (first, values_of(FORMS[first], words[1:]))
 
 
 def end_of_bores(things):

@@ -1,4 +1,4 @@
-"""Names, numbers, the words of a row and the rows of a text."""
+"""Names, numbers, the words of a row and the rows of a text, and words taken as values."""
 
 from bores.errors import NoText
 
@@ -34,3 +34,19 @@ def rows_of(text):
     if text == "":
         return []
     return text.split("\n")
+
+
+def values_of(kinds, words):
+    if len(words) != len(kinds):
+        raise NoText(f"too many words or too few: {words!r}")
+    return tuple([value_of(kind, word) for kind, word in zip(kinds, words)])
+
+
+def value_of(kind, word):
+    if kind == "name" and is_name(word):
+        return word
+    if kind == "number" and is_number(word):
+        return int(word)
+    if kind == "spot":
+        return values_of(("name", "number"), word.split("."))
+    raise NoText(f"no {kind}: {word!r}")

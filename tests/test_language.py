@@ -183,6 +183,37 @@ def methods_of(trees):
     ]
 
 
+def values_of_objects(trees):
+    return [
+        node.attr
+        for tree in trees
+        for node in ast.walk(tree)
+        if isinstance(node, ast.Attribute) and isinstance(node.ctx, ast.Store)
+    ]
+
+
+def locals_of(tree):
+    # Each parameter and each name that is bound within a def, but the names of the file's top.
+    names = []
+    for node in ast.walk(tree):
+        if isinstance(node, ast.arg):
+            names.append(node.arg)
+        if isinstance(node, ast.Name) and isinstance(node.ctx, ast.Store) and node not in names_of_top(tree):
+            names.append(node.id)
+    return names
+
+
+def names_of_top(tree):
+    return [target for node in tree.body if isinstance(node, ast.Assign) for target in node.targets]
+
+
+def taken_names_of(tree):
+    # The imports, classes, functions and values of a file's top: none of them is given another meaning.
+    taken = [name.name for node in tree.body if isinstance(node, ast.ImportFrom) for name in node.names]
+    taken += [node.name for node in tree.body if isinstance(node, (ast.ClassDef, ast.FunctionDef))]
+    return taken + [target.id for target in names_of_top(tree)]
+
+
 def drawn_from(tree):
     return [node.module.rpartition(".")[2] for node in tree.body if isinstance(node, ast.ImportFrom)]
 
@@ -209,6 +240,14 @@ class Language(unittest.TestCase):
         for name, tree in self.trees.items():
             self.assertEqual(faults_of_code(tree, own_methods), [], name)
 
+    def test_no_local_is_called_like_a_name_of_its_file(self):
+        for name, tree in self.trees.items():
+            self.assertEqual([each for each in locals_of(tree) if each in taken_names_of(tree)], [], name)
+
+    def test_no_name_is_a_method_and_a_value(self):
+        methods = methods_of(self.trees.values())
+        self.assertEqual([each for each in values_of_objects(self.trees.values()) if each in methods + METHODS], [])
+
     def test_names_are_drawn_from_where_they_are_defined(self):
         for tree in self.trees.values():
             for node in tree.body:
@@ -230,6 +269,14 @@ class TheWalkItself(unittest.TestCase):
     def faults(self, code):
         tree = ast.parse(code)
         return faults_of_top(tree) + faults_of_code(tree, []) + faults_of_text(code)
+
+    def test_names_with_another_meaning_are_found(self):
+        code = "from bores.a import f\nK = 1\ndef g(f):\n    for g in f:\n        K = [h for h in g]\n"
+        tree = ast.parse(code)
+        self.assertEqual(sorted([name for name in locals_of(tree) if name in taken_names_of(tree)]), ["K", "f", "g"])
+        tree = ast.parse("class A:\n    def f(self):\n        self.g = 1\n        self.f = self.h")
+        self.assertEqual(sorted(values_of_objects([tree])), ["f", "g"])
+        self.assertEqual(methods_of([tree]), ["f"])
 
     def test_plain_code_passes(self):
         for code in ("x = 1", "def f(a):\n    return [b for b in a if b is None]", "class A(ValueError):\n    pass"):
